@@ -1,0 +1,1 @@
+"""Foldwalk: one walk through all cells of a square floor."""
